@@ -1,0 +1,1 @@
+"""Speakmill: a small language from text to answer."""
