@@ -10,43 +10,19 @@ TOLD_WORDS = ("def", "if", "then", "else", "let", "in", "fn", "yes", "no") + ONE
 NAMES = ("x", "y", "f", "g1", "longname")
 
 
-def refuses(test, do, text):
-    """Asks for BadText, which is taken as MillError and ValueError, and as none of the others."""
-    with test.assertRaises(BadText, msg=text) as caught:
-        do(text)
+REFUSALS = (BadText, BadName, BadKind, BadInput)
+
+
+def refuses(test, do, *given, refusal=BadText):
+    """Asks for one refusal, which is taken as MillError and ValueError, and as none of the others."""
+    # A tree may be too great to be shown.
+    texts = [one for one in given if isinstance(one, str)]
+    with test.assertRaises(refusal, msg=texts) as caught:
+        do(*given)
     test.assertIsInstance(caught.exception, MillError)
     test.assertIsInstance(caught.exception, ValueError)
-    test.assertNotIsInstance(caught.exception, (BadName, BadKind, BadInput))
-
-
-def shown_term(term):
-    """A term with all its brackets, as point 6 writes it."""
-    form = term[0]
-    if form == "number":
-        return str(term[1])
-    if form == "truth":
-        return "yes" if term[1] else "no"
-    if form == "none":
-        return "[]"
-    if form == "name":
-        return term[1]
-    if form == "two":
-        return f"({shown_term(term[2])} {term[1]} {shown_term(term[3])})"
-    if form == "one":
-        return f"({term[1]} {shown_term(term[2])})"
-    if form == "if":
-        return f"(if {shown_term(term[1])} then {shown_term(term[2])} else {shown_term(term[3])})"
-    if form == "let":
-        return f"(let {term[1]} = {shown_term(term[2])} in {shown_term(term[3])})"
-    if form == "fn":
-        return f"(fn {term[1]} => {shown_term(term[2])})"
-    if form == "do":
-        return f"({shown_term(term[1])} ! {shown_term(term[2])})"
-    return f"{term[1]}({', '.join(shown_term(part) for part in term[2])})"
-
-
-def shown(program):
-    return "\n".join(f"def {name}({', '.join(names)}) = {shown_term(body)}" for word, name, names, body in program)
+    others = tuple(other for other in REFUSALS if other is not refusal)
+    test.assertNotIsInstance(caught.exception, others)
 
 
 def any_term(chance, depth):
@@ -65,6 +41,13 @@ def any_term(chance, depth):
     if form == "call":
         return ("call", name, parts)
     return (form,) + heads.get(form, ()) + parts
+
+
+def any_program(chance, depth):
+    return tuple(
+        ("def", chance.choice(NAMES), tuple(chance.choice(NAMES) for name in range(chance.randint(0, 4))),
+         any_term(chance, chance.randint(1, depth)))
+        for function in range(chance.randint(1, 12)))
 
 
 def seeded(number):

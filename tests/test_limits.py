@@ -2,8 +2,9 @@
 
 import unittest
 
-from helpers import ONE_WORDS, SIGNS, refuses, shown, shown_term
+from helpers import ONE_WORDS, SIGNS, refuses
 from speakmill.reading import read
+from speakmill.showing import shown, shown_term
 from speakmill.trees import depth_of, size_of
 
 ONE = ("number", 1)

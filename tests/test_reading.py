@@ -4,10 +4,10 @@ import itertools
 import unittest
 
 from grammar import all_readings
-from helpers import NAMES, ONE_WORDS, SIGNS, TOLD_WORDS, any_term, refuses, seeded, shown, shown_term
+from helpers import NAMES, ONE_WORDS, SIGNS, TOLD_WORDS, any_term, refuses, seeded
 from speakmill.errors import BadText
 from speakmill.reading import read
-from speakmill.trees import depth_of, size_of
+from speakmill.showing import shown_term
 
 A, B, C, D = ("name", "a"), ("name", "b"), ("name", "c"), ("name", "d")
 X = ("name", "x")
@@ -335,28 +335,6 @@ def loose(chance, term):
         if (at == 0 or row[at - 1] not in NAMES) and chance.random() < 0.7:
             gone.update((at, closer))
     return " ".join(word for at, word in enumerate(row) if at not in gone)
-
-
-class ShownTest(ReadingTest):
-    """Point 6: the text of a program with all its brackets is read as this program."""
-
-    def test_any_programs(self):
-        chance = seeded(6)
-        let_by = 0
-        for many in range(400):
-            program = tuple(
-                ("def", chance.choice(NAMES), tuple(chance.choice(NAMES) for name in range(chance.randint(0, 4))),
-                 any_term(chance, chance.randint(1, 16 if many % 2 else 4)))
-                for function in range(chance.randint(1, 12 if many % 3 else 1)))
-            text = shown(program)
-            bodies = [function[3] for function in program]
-            if len(text) > 4000 or sum(size_of(body) for body in bodies) > 400:
-                self.refused(text)
-            else:
-                self.assertLessEqual(max(depth_of(body) for body in bodies), 16)
-                self.assertEqual(repr(read(text)), repr(program))
-                let_by += 1
-        self.assertGreater(let_by, 100)
 
 
 if __name__ == "__main__":
