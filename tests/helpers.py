@@ -1,6 +1,8 @@
 """What several tests share."""
 
 import random
+import sys
+import unittest
 
 from speakmill.errors import BadInput, BadKind, BadName, BadText, MillError
 
@@ -23,6 +25,17 @@ def refuses(test, do, *given, refusal=BadText):
     test.assertIsInstance(caught.exception, ValueError)
     others = tuple(other for other in REFUSALS if other is not refusal)
     test.assertNotIsInstance(caught.exception, others)
+
+
+class DeepCallsTest(unittest.TestCase):
+    """For tests that hold the program to something that goes by calls of Python's, sixty deep and more."""
+
+    def setUp(self):
+        self.limit = sys.getrecursionlimit()
+        sys.setrecursionlimit(10000)
+
+    def tearDown(self):
+        sys.setrecursionlimit(self.limit)
 
 
 def any_term(chance, depth):
