@@ -3,6 +3,9 @@
 # 10 ** 40
 GREATEST = 10000000000000000000000000000000000000000
 
+# The rows that take two numbers, and their signs.
+ROW_SIGNS = {"add": "+", "sub": "-", "mul": "*", "div": "/", "less": "<", "same": "="}
+
 
 def two_told(sign, a, b):
     if sign == "<":

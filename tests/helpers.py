@@ -4,7 +4,11 @@ import random
 import sys
 import unittest
 
+from speakmill.cells import Cells
+from speakmill.compiling import compiled
 from speakmill.errors import BadInput, BadKind, BadName, BadText, MillError
+from speakmill.reading import read
+from speakmill.scopes import placed
 
 SIGNS = "<=:+-*/"
 ONE_WORDS = ("head", "tail", "empty", "not")
@@ -65,3 +69,19 @@ def any_program(chance, depth):
 
 def seeded(number):
     return random.Random(number)
+
+
+def cell(number):
+    return ("cell", number)
+
+
+def cells_of(*put):
+    """Cells into which these were put."""
+    cells = Cells()
+    for one in put:
+        cells.put(one)
+    return cells
+
+
+def compiled_text(text):
+    return compiled(placed(read(text)))
