@@ -111,12 +111,15 @@ class Machine:
 
 
 def run(blocks, main, numbers, most, rounds):
+    return ended(blocks, main, numbers, most, rounds).answer()
+
+
+# A machine by which all is over.
+def ended(blocks, main, numbers, most, rounds):
     machine = Machine(blocks, main, numbers, most)
-    asked = {}
-    for number in rounds:
-        asked[number] = True
+    asked = dict([(number, True) for number in rounds])
     while machine.answer() is None:
         if machine.rows_done() in asked:
             machine.collect()
         machine.step()
-    return machine.answer()
+    return machine

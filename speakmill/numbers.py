@@ -7,6 +7,11 @@ GREATEST = 10000000000000000000000000000000000000000
 ROW_SIGNS = {"add": "+", "sub": "-", "mul": "*", "div": "/", "less": "<", "same": "="}
 
 
+# To Python truths are whole numbers, too.
+def is_whole(value):
+    return isinstance(value, int) and not isinstance(value, bool)
+
+
 def two_told(sign, a, b):
     if sign == "<":
         return ("value", a < b)
